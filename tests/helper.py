@@ -1,8 +1,11 @@
-"""What several test files need: fractions as Python has them, and cover questions made by a seed."""
+"""What several test files need: looks at answers' kinds, and questions made by a seed."""
 
+import copy
 import math
 from fractions import Fraction
 from random import Random
+
+from goodenough.errors import NoLengths
 
 
 def as_fraction(told):
@@ -26,6 +29,30 @@ def assert_whole_numbers(case, told):
     case.assertIs(type(told), list)
     for number in told:
         case.assertIs(type(number), int)
+
+
+def assert_pairs(case, told):
+    case.assertIs(type(told), list)
+    for pair in told:
+        case.assertIs(type(pair), tuple)
+        case.assertEqual([type(part) for part in pair], [int, int])
+
+
+def assert_unchanged(case, ask, given):
+    """What is handed in stays as it was, and a told list that is changed changes no later answer."""
+    kept = copy.deepcopy(given)
+    told = ask(*given)
+    case.assertEqual(given, kept)
+    first = copy.deepcopy(told)
+    if isinstance(told, list):
+        told.append(99)
+        told.reverse()
+    again = ask(*given)
+    case.assertEqual(again, first)
+    if isinstance(again, list):
+        again.clear()
+    case.assertEqual(ask(*given), first)
+    case.assertEqual(given, kept)
 
 
 def assert_fractions(case, told):
@@ -55,3 +82,104 @@ def questions(seed, count, most_things, most_sets, most_price):
         many = random.randint(0, most_things)
         made.append((many, coverable(random, many, random.randint(0, most_sets), most_price)))
     return made
+
+
+def touch_questions(seed, count, most_points, most_lines, most_price):
+    random = Random(seed)
+    made = []
+    for _ in range(count):
+        points = random.randint(0, most_points)
+        prices = [random.randint(0, most_price) for _ in range(points)]
+        lines = []
+        if points > 1:
+            lines = [tuple(random.sample(range(points), 2)) for _ in range(random.randint(0, most_lines))]
+        made.append((prices, lines))
+    return made
+
+
+def closed_up(table):
+    """The same places with each length the shortest way by any others, so that the three-sided rule holds."""
+    count = len(table)
+    lengths = [list(row) for row in table]
+    for by in range(count):
+        for one in range(count):
+            for other in range(count):
+                lengths[one][other] = min(lengths[one][other], lengths[one][by] + lengths[by][other])
+    return lengths
+
+
+def made_lengths(random, count, most):
+    table = [[0] * count for _ in range(count)]
+    for one in range(count):
+        for other in range(one):
+            table[one][other] = table[other][one] = random.randint(0, most)
+    return closed_up(table)
+
+
+def length_tables(seed, count, most_places, most):
+    random = Random(seed)
+    return [made_lengths(random, random.randint(1, most_places), most) for _ in range(count)]
+
+
+# Each is refused by one rule alone: a place away from itself, two unlike lengths, three sides.
+BAD_LENGTHS = (
+    [[1]],
+    [[0, 3], [3, 1]],
+    [[2, 3], [3, 0]],
+    [[0, 1], [2, 0]],
+    [[0, 2], [1, 0]],
+    [[0, 0], [1, 0]],
+    [[0, 5, 5], [5, 0, 5], [5, 6, 0]],
+    [[0, 2, 5], [2, 0, 2], [5, 2, 0]],
+    [[0, 2, 2], [2, 0, 5], [2, 5, 0]],
+    [[0, 5, 2], [5, 0, 2], [2, 2, 0]],
+    [[0, 0, 1], [0, 0, 0], [1, 0, 0]],
+    [[0, 10 ** 18, 1], [10 ** 18, 0, 10 ** 18 - 2], [1, 10 ** 18 - 2, 0]],
+)
+
+
+def spoiled(lengths, one, other, by):
+    """The same lengths, but with both lengths between two places greater by so much."""
+    made = [list(row) for row in lengths]
+    made[one][other] += by
+    made[other][one] += by
+    return made
+
+
+def assert_lengths_refused(case, ask):
+    """ask takes lengths alone: bad ones are refused, and good ones are taken behind a refusal."""
+    good = [[0, 2, 4], [2, 0, 2], [4, 2, 0]]
+    wanted = ask(good)
+    bad = list(BAD_LENGTHS) + [spoiled(good, 0, 2, 1), closed_bad(12, 11, 3), closed_bad(12, 0, 7)]
+    for lengths in bad:
+        kept = copy.deepcopy(lengths)
+        with case.assertRaises(NoLengths):
+            ask(lengths)
+        case.assertEqual(lengths, kept)
+        case.assertEqual(ask(good), wanted)
+
+
+def closed_bad(count, one, other):
+    """Places in a line, two of them by one farther apart than the way between them is."""
+    line = [[abs(a - b) for b in range(count)] for a in range(count)]
+    return spoiled(line, one, other, 1)
+
+
+def hang_together(count, roads):
+    """Whether one comes from place 0 to each by these roads: point 14's word, grown step by step."""
+    reached = {0}
+    for _ in range(count):
+        for one, other in roads:
+            if one in reached or other in reached:
+                reached |= {one, other}
+    return len(reached) == count
+
+
+def all_pairings(places):
+    if not places:
+        yield []
+        return
+    first = places[0]
+    for k in range(1, len(places)):
+        for rest in all_pairings(places[1:k] + places[k + 1:]):
+            yield [(first, places[k])] + rest
