@@ -1,11 +1,12 @@
 """What several test files need: looks at answers' kinds, and questions made by a seed."""
 
 import copy
+import itertools
 import math
 from fractions import Fraction
 from random import Random
 
-from goodenough.errors import NoLengths
+from goodenough.errors import NoLengths, NoRoom
 
 
 def as_fraction(told):
@@ -183,3 +184,64 @@ def all_pairings(places):
     for k in range(1, len(places)):
         for rest in all_pairings(places[1:k] + places[k + 1:]):
             yield [(first, places[k])] + rest
+
+
+def all_rounds(count):
+    for rest in itertools.permutations(range(1, count)):
+        yield [0] + list(rest)
+
+
+def size_lists(seed, count, most_sizes, most):
+    random = Random(seed)
+    return [[random.randint(1, most) for _ in range(random.randint(0, most_sizes))] for _ in range(count)]
+
+
+def sums_of(sizes, put):
+    """What lies on each bench, or in each bin, that has anything."""
+    sums = {}
+    for size, number in zip(sizes, put):
+        sums[number] = sums.get(number, 0) + size
+    return sums
+
+
+def all_puttings(count, many):
+    """All puttings of so many things to so many benches, these being numbered as they are opened."""
+    def further(put, used):
+        if len(put) == count:
+            yield put
+            return
+        for number in range(min(used + 1, many)):
+            yield from further(put + [number], max(used, number + 1))
+    return further([], 0)
+
+
+def assert_no_room(case, ask):
+    """ask takes sizes and room: refused with the least number of a thing too great, and only then."""
+    wanted = ask([3, 5, 1], 5)
+    for sizes, room, thing in (([6], 5, 0), ([5, 6], 5, 1), ([6, 7, 8], 5, 0), ([1, 2, 9, 1, 8], 7, 2), ([2], 1, 0),
+                               ([1, 9, 10], 8, 1), ([1] * 39 + [2], 1, 39), ([10 ** 18], 10 ** 18 - 1, 0)):
+        kept = list(sizes)
+        with case.assertRaises(NoRoom) as caught:
+            ask(sizes, room)
+        case.assertEqual(caught.exception.thing, thing)
+        case.assertIs(type(caught.exception.thing), int)
+        case.assertEqual(sizes, kept)
+        case.assertEqual(ask([3, 5, 1], 5), wanted)
+
+
+def sack_questions(seed, count, most_things, most_worth, most_weight):
+    random = Random(seed)
+    made = []
+    for _ in range(count):
+        things = []
+        for _ in range(random.randint(0, most_things)):
+            things.append((random.randint(0, most_worth), random.randint(1, most_weight)))
+        made.append((random.randint(0, 3 * most_weight), things))
+    return made
+
+
+def all_fillings(room, things):
+    for size in range(len(things) + 1):
+        for taken in itertools.combinations(range(len(things)), size):
+            if sum(things[number][1] for number in taken) <= room:
+                yield taken
