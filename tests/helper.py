@@ -7,6 +7,8 @@ from fractions import Fraction
 from random import Random
 
 from goodenough.errors import NoLengths, NoRoom
+from goodenough.questions import (BenchQuestion, BinQuestion, CoverQuestion, PlaceQuestion, Question, RoundQuestion,
+                                  SackQuestion)
 
 
 def as_fraction(told):
@@ -245,3 +247,33 @@ def all_fillings(room, things):
         for taken in itertools.combinations(range(len(things)), size):
             if sum(things[number][1] for number in taken) <= room:
                 yield taken
+
+
+def all_cases(question, case=()):
+    """All cases that come of one by ways, itself first."""
+    yield case
+    if len(case) < question.steps():
+        for way in question.ways(case):
+            yield from all_cases(question, case + (way,))
+
+
+def whole_cases(question):
+    return [case for case in all_cases(question) if len(case) == question.steps()]
+
+
+def small_questions(seed, count):
+    """Questions of each kind, each small enough for all its cases to be gone through."""
+    random = Random(seed)
+    made = [Question()]
+    for many, sets in questions(seed, count, 5, 5, 6):
+        made.append(CoverQuestion(many, sets))
+    for works in size_lists(seed, count, 5, 7):
+        made.append(BenchQuestion(works, random.randint(1, 4)))
+    for sizes in size_lists(seed + 1, count, 5, 7):
+        made.append(BinQuestion(sizes, random.randint(7, 12)))
+    for room, things in sack_questions(seed, count, 6, 9, 6):
+        made.append(SackQuestion(room, things))
+    for lengths in length_tables(seed, count, 5, 9):
+        made.append(RoundQuestion(lengths))
+        made.append(PlaceQuestion(lengths, random.randint(1, len(lengths))))
+    return made
