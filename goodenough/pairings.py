@@ -11,21 +11,25 @@ def odd_ends(roads):
     return sorted([place for place in odd if odd[place]])
 
 
-def best_pairs(lengths, rest, known):
-    # What is known of a rest is kept, as many ways of pairing the others leave the same rest.
-    if len(rest) == 0:
-        return (0, ())
-    if rest not in known:
-        first = rest[0]
-        offers = []
-        for k in range(1, len(rest)):
-            others = best_pairs(lengths, rest[1:k] + rest[k + 1:], known)
-            offers.append((lengths[first][rest[k]] + others[0], ((first, rest[k]),) + others[1]))
-        known[rest] = min(offers)
-    return known[rest]
+class KnownPairs:
+
+    def __init__(self, lengths):
+        self.lengths = lengths
+        # Many ways of pairing some places leave the same rest: what is found for it is kept.
+        self.known = {(): (0, ())}
+
+    def best(self, rest):
+        if rest not in self.known:
+            self.known[rest] = min([self.best_with(rest, k) for k in range(1, len(rest))])
+        return self.known[rest]
+
+    def best_with(self, rest, k):
+        others = self.best(rest[1:k] + rest[k + 1:])
+        pair = (rest[0], rest[k])
+        return (self.lengths[pair[0]][pair[1]] + others[0], (pair,) + others[1])
 
 
 def least_pairing(lengths, some):
     look_at(lengths)
     # Sorted, so that the order in which the places are handed in doesn't matter.
-    return list(best_pairs(lengths, tuple(sorted(some)), {})[1])
+    return list(KnownPairs(lengths).best(tuple(sorted(some)))[1])

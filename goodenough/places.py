@@ -11,6 +11,11 @@ def reach(lengths, some):
     return max([nearest(lengths, place, some) for place in range(len(lengths))])
 
 
+def least_apart(lengths, some):
+    # Each with those behind it: so a place that stands once is never held against itself.
+    return min([nearest(lengths, some[k], some[k + 1:]) for k in range(len(some) - 1)])
+
+
 def farthest(lengths, chosen):
     best = None
     most = None

@@ -13,6 +13,10 @@ def common_factor(one, other):
     return great
 
 
+def common_multiple(one, other):
+    return one * (other // common_factor(one, other))
+
+
 def share(top, bottom):
     if bottom == 0:
         raise NoShare("no fraction has nought for its bottom")

@@ -277,3 +277,46 @@ def small_questions(seed, count):
         made.append(RoundQuestion(lengths))
         made.append(PlaceQuestion(lengths, random.randint(1, len(lengths))))
     return made
+
+
+ODD_NUMBERS = (-1, -2, 40, 99, -(10 ** 99), 10 ** 99, 10 ** 100 - 1)
+
+
+def spoiled_list(random, numbers):
+    """A list of whole numbers with one or two odd changes: left out, twice, another, in another order, more."""
+    made = list(numbers)
+    for _ in range(random.randint(1, 2)):
+        spot = random.randint(0, len(made))
+        change = random.randrange(7)
+        if change == 0:
+            made[spot:spot + 1] = []
+        elif change == 1:
+            made[spot:spot] = made[spot:spot + 1]
+        elif change == 2:
+            made.insert(spot, random.choice(ODD_NUMBERS))
+        elif change == 3:
+            made[spot:spot + 1] = [random.choice(ODD_NUMBERS)]
+        elif change == 4:
+            made[spot:spot + 1] = [number + random.choice((-1, 1)) for number in made[spot:spot + 1]]
+        elif change == 5:
+            random.shuffle(made)
+        else:
+            made[spot:spot] = [random.randint(0, 5)]
+    return made
+
+
+def spoiled_pairs(random, pairs):
+    """A list of pairs with one of its numbers changed, or a pair left out, twice, or turned round."""
+    made = list(pairs)
+    change = random.randrange(4)
+    if change == 0 or not made:
+        made.insert(random.randint(0, len(made)), (random.randint(-1, 5), random.randint(-1, 5)))
+    elif change == 1:
+        made.pop(random.randrange(len(made)))
+    elif change == 2:
+        flat = spoiled_list(random, [number for pair in made for number in pair])
+        made = [(flat[k], flat[k + 1]) for k in range(0, len(flat) - 1, 2)]
+    else:
+        spot = random.randrange(len(made))
+        made[spot] = made[spot][::-1]
+    return made
