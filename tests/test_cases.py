@@ -34,6 +34,16 @@ class Deep(Question):
         return list(case)
 
 
+class Led(Deep):
+    """The same behind a first step that has but one way."""
+
+    def steps(self):
+        return self.many + 1
+
+    def ways(self, case):
+        return Deep.ways(self, case[1:]) if case else [0]
+
+
 def looked_through(question):
     """Point 30 by recursion: the best case, its cost, the closed cases, and how many were looked at."""
     found = {"case": None, "cost": None, "closed": [], "count": 0}
@@ -137,6 +147,9 @@ class MostTest(unittest.TestCase):
         with self.assertRaises(TooMany):
             best_by_cases(Deep(1000))
         self.assertEqual(best_by_cases(Deep(1000), 2001)[1], 0)
+        # One more case ahead of them: 2000, which is just enough.
+        self.assertEqual(looked_through(Led(20))[1], 42)
+        self.assertEqual(best_by_cases(Led(999))[1], 0)
 
     def test_a_question_too_great(self):
         lengths = [[0 if a == b else 5 for b in range(12)] for a in range(12)]
